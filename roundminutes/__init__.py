@@ -1,0 +1,1 @@
+"""Roundminutes: leading one periodic timetable into another, minute by minute."""
