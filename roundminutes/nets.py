@@ -1,7 +1,7 @@
 """Nets: events that come again in each round, and the spans between them."""
 
-from roundminutes.errors import BadName, BadNumber, DoubleEvent, SameEvent, TooMany, UnknownEvent, UnknownSpan
-from roundminutes.names import is_name
+from roundminutes.errors import BadNumber, DoubleEvent, SameEvent, TooMany, UnknownEvent, UnknownSpan
+from roundminutes.names import check_name
 
 
 def check_range(number, low, high):
@@ -23,18 +23,22 @@ def check_count(count, limit):
 
 def check_event(name, before):
     """Raise the error of an event that comes after the events before it, if it has one."""
-    if not is_name(name):
-        raise BadName(name)
+    check_name(name)
     if name in before:
         raise DoubleEvent(name)
+
+
+def check_known(names, known):
+    """Raise UnknownEvent for the first of the names that is not among the known ones."""
+    for name in names:
+        if name not in known:
+            raise UnknownEvent(name)
 
 
 def check_span(round_length, events, span):
     """Raise the first error of a span between two of the events, if it has one."""
     start, end, least, most, weight = span
-    for name in (start, end):
-        if name not in events:
-            raise UnknownEvent(name)
+    check_known([start, end], events)
     if start == end:
         raise SameEvent(start)
     check_range(least, 0, round_length - 1)
@@ -54,14 +58,17 @@ def check_net(round_length, events, spans):
         check_span(round_length, events, span)
 
 
+def joined(leaders, first, second):
+    """Return the leaders of all names after the parts of two names have got the same leader."""
+    kept, dropped = leaders[first], leaders[second]
+    return {name: kept if leaders[name] == dropped else leaders[name] for name in leaders}
+
+
 def pieces_of(events, spans):
     """Return the lists of events that the spans connect, in the order of the events."""
     leaders = {name: name for name in events}
     for span in spans:
-        kept, dropped = leaders[span[0]], leaders[span[1]]
-        for name in events:
-            if leaders[name] == dropped:
-                leaders[name] = kept
+        leaders = joined(leaders, span[0], span[1])
     pieces = {}
     for name in events:
         pieces.setdefault(leaders[name], []).append(name)

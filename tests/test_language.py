@@ -1,12 +1,30 @@
-"""The rules of the language that can be read off the files of the package (L1, L2, L6, L10, L14, L27)."""
+"""Rules of the language that can be read off the files of the package."""
 
 import ast
+import builtins
+import re
 import unittest
 from pathlib import Path
 
 PACKAGE = Path(__file__).resolve().parent.parent / "roundminutes"
 FILES = sorted(PACKAGE.rglob("*.py"))
 LIBRARY = ["heapq", "math", "itertools", "collections", "__future__"]
+
+# L8, without those that only __main__.py may use.
+BUILTINS = """len range enumerate zip min max sum abs sorted reversed int str bool list tuple dict set isinstance ord repr any
+    all divmod iter property classmethod staticmethod super ValueError""".split()
+
+# L25, those that the package may call on strings, lists and dicts.
+METHODS = """append clear copy count endswith extend find get index insert isalnum isalpha isdigit islower isspace isupper
+    items join keys ljust lower lstrip partition pop remove replace reverse rfind rjust rpartition rsplit rstrip setdefault
+    split splitlines startswith strip update upper values zfill bit_length""".split()
+
+# L17
+WORDS = """type typing typing_extensions enum Enum IntEnum StrEnum Flag IntFlag Generic Protocol ABC ABCMeta namedtuple
+    NamedTuple TypedDict TYPE_CHECKING abstractmethod""".split()
+PARTS = ["dataclass", "overload", "contextmanager", "(type)", "Meta", "metaclass="]
+
+OPERATORS = re.compile("__(eq|ne|lt|le|gt|ge|add|sub|mul|rmul|floordiv|or|and|neg|abs|lshift|rshift|contains|getitem)__")
 
 
 def nodes(path, *kinds):
@@ -49,6 +67,53 @@ class LanguageTest(unittest.TestCase):
                 self.assertNotIsInstance(node.value, float, (path, node.lineno))
                 if isinstance(node.value, str):
                     self.assertNotIn("%", node.value, (path, node.lineno))
+
+    def test_builtins_and_methods(self):
+        defined = {node.name for path in FILES for node in nodes(path, ast.FunctionDef)}
+        for path in FILES:
+            for node in nodes(path, ast.Name):
+                if hasattr(builtins, node.id):
+                    self.assertIn(node.id, BUILTINS, (path, node.lineno))
+            for node in nodes(path, ast.Call):
+                if isinstance(node.func, ast.Attribute):
+                    self.assertIn(node.func.attr, [*METHODS, *defined], (path, node.lineno))
+
+    def test_names_have_one_meaning(self):
+        for path in FILES:
+            taken = {*dir(builtins), *[node.name for node in nodes(path, ast.ClassDef)]}
+            taken.update([alias.name for node in nodes(path, ast.ImportFrom) for alias in node.names])
+            own = [node.arg for node in nodes(path, ast.arg)]
+            own += [node.id for node in nodes(path, ast.Name) if isinstance(node.ctx, ast.Store)]
+            self.assertEqual([name for name in own if name in taken], [], path)
+
+    def test_lists_instead_of_generators(self):
+        for path in FILES:
+            self.assertEqual([node.lineno for node in nodes(path, ast.GeneratorExp)], [], path)
+
+    def test_sets_are_not_kept(self):
+        for path in FILES:
+            self.assertEqual([node.lineno for node in nodes(path, ast.Set, ast.SetComp)], [], path)
+
+    def test_is_only_with_none_true_and_false(self):
+        for path in FILES:
+            for node in nodes(path, ast.Compare):
+                if isinstance(node.ops[0], (ast.Is, ast.IsNot)):
+                    self.assertIsInstance(node.comparators[0], ast.Constant, (path, node.lineno))
+
+    def test_operators_take_one_other_and_only_plain_numbers_grow(self):
+        for path in FILES:
+            for node in nodes(path, ast.FunctionDef):
+                if OPERATORS.fullmatch(node.name):
+                    self.assertLessEqual(len(node.args.args), 2, (path, node.name))
+                    self.assertEqual((node.args.defaults, node.args.kwonlyargs, node.args.vararg), ([], [], None))
+            for node in nodes(path, ast.AugAssign):
+                self.assertIsInstance(node.value, ast.Constant, (path, node.lineno))
+
+    def test_barred_words(self):
+        for path in FILES:
+            text = path.read_text()
+            self.assertEqual([part for part in PARTS if part in text], [], path)
+            self.assertEqual([node.id for node in nodes(path, ast.Name) if node.id in WORDS], [], path)
 
 
 if __name__ == "__main__":
