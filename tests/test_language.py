@@ -2,6 +2,7 @@
 
 import ast
 import builtins
+import itertools
 import re
 import unittest
 from pathlib import Path
@@ -11,20 +12,21 @@ FILES = sorted(PACKAGE.rglob("*.py"))
 LIBRARY = ["heapq", "math", "itertools", "collections", "__future__"]
 
 # L8, without those that only __main__.py may use.
-BUILTINS = """len range enumerate zip min max sum abs sorted reversed int str bool list tuple dict set isinstance ord repr any
-    all divmod iter property classmethod staticmethod super ValueError""".split()
+BUILTINS = """len range enumerate zip min max sum abs sorted reversed int str bool list tuple dict set isinstance ord
+    repr any all divmod iter property classmethod staticmethod super ValueError""".split()
 
 # L25, those that the package may call on strings, lists and dicts.
-METHODS = """append clear copy count endswith extend find get index insert isalnum isalpha isdigit islower isspace isupper
-    items join keys ljust lower lstrip partition pop remove replace reverse rfind rjust rpartition rsplit rstrip setdefault
-    split splitlines startswith strip update upper values zfill bit_length""".split()
+METHODS = """append clear copy count endswith extend find get index insert isalnum isalpha isdigit islower isspace
+    isupper items join keys ljust lower lstrip partition pop remove replace reverse rfind rjust rpartition rsplit rstrip
+    setdefault split splitlines startswith strip update upper values zfill bit_length""".split()
 
 # L17
 WORDS = """type typing typing_extensions enum Enum IntEnum StrEnum Flag IntFlag Generic Protocol ABC ABCMeta namedtuple
     NamedTuple TypedDict TYPE_CHECKING abstractmethod""".split()
 PARTS = ["dataclass", "overload", "contextmanager", "(type)", "Meta", "metaclass="]
 
-OPERATORS = re.compile("__(eq|ne|lt|le|gt|ge|add|sub|mul|rmul|floordiv|or|and|neg|abs|lshift|rshift|contains|getitem)__")
+OPERATORS = re.compile("__(eq|ne|lt|le|gt|ge|add|sub|mul|rmul|floordiv|or|and|neg|abs|lshift|rshift|contains"
+                       "|getitem)__")
 
 
 def nodes(path, *kinds):
@@ -85,6 +87,21 @@ class LanguageTest(unittest.TestCase):
             own = [node.arg for node in nodes(path, ast.arg)]
             own += [node.id for node in nodes(path, ast.Name) if isinstance(node.ctx, ast.Store)]
             self.assertEqual([name for name in own if name in taken], [], path)
+
+    def test_methods_properties_and_attributes_have_different_names(self):
+        # L5 and L18 let some of them have the same name in different classes, but not everywhere.
+        methods, properties, attributes, values = set(), set(), set(), set()
+        for path in FILES:
+            for kind in nodes(path, ast.ClassDef):
+                for node in kind.body:
+                    if isinstance(node, ast.FunctionDef):
+                        marks = [mark.id for mark in node.decorator_list if isinstance(mark, ast.Name)]
+                        (properties if "property" in marks else methods).add(node.name)
+                    elif isinstance(node, ast.Assign):
+                        values.add(node.targets[0].id)
+            attributes |= {node.attr for node in nodes(path, ast.Attribute) if isinstance(node.ctx, ast.Store)}
+        for first, second in itertools.combinations([methods, properties, attributes, values], 2):
+            self.assertEqual(first & second, set())
 
     def test_lists_instead_of_generators(self):
         for path in FILES:
