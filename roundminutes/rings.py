@@ -57,7 +57,7 @@ class Base:
     def path(self, first, second):
         """Return the walk along tree spans from one event to another, or None between different pieces."""
         check_known([first, second], self._net)
-        _, last, _ = least_walks(self._arcs, first)
+        last = least_walks(self._arcs, first)[1]
         return walk_along(last, first, second)
 
 
