@@ -52,7 +52,16 @@ def broken(net, times):
     return [number for number, minutes in enumerate(on_all_spans(net, times)) if minutes is None]
 
 
+def waits_of(spans, minutes):
+    """Return the weighted sum of the minutes beyond the least ones, if these minutes pass on the spans."""
+    return sum([span[4] * (passing - span[2]) for span, passing in zip(spans, minutes)])
+
+
+def minutes_after(spans, minutes, shift):
+    """Return the minutes that pass on the spans after a shift, if these minutes passed before."""
+    return [passing + shift[span[1]] - shift[span[0]] for span, passing in zip(spans, minutes)]
+
+
 def waits(net, times):
     """Return the weighted sum of the minutes that pass beyond the least ones."""
-    minutes = kept_minutes(net, times)
-    return sum([span[4] * (passing - span[2]) for span, passing in zip(net.spans, minutes)])
+    return waits_of(net.spans, kept_minutes(net, times))

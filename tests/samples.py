@@ -17,6 +17,15 @@ MIXED = Net(20, ["e", "b", "d", "a", "c", "f"], [
     ("c", "b", 1, 16, 7), ("e", "d", 2, 8, 1)])
 MIXED_TIMES = Times(20, {"a": 5, "b": 0, "c": 9, "d": 0, "e": 12, "f": 7})
 
+# Rigid spans at a and b and at d and e, free ones between b, c and d.
+CHAIN = Net(30, ["a", "b", "c", "d", "e"], [
+    ("a", "b", 10, 10, 1), ("b", "c", 5, 30, 1), ("c", "d", 5, 30, 1), ("d", "e", 4, 4, 1)])
+CHAIN_START = Times(30, {"a": 0, "b": 10, "c": 20, "d": 0, "e": 4})
+# c is later, and a round more passes from b to d.
+CHAIN_GOAL = Times(30, {"a": 0, "b": 10, "c": 5, "d": 0, "e": 4})
+# All later by 5 minutes.
+CHAIN_LATER = CHAIN_START >> 5
+
 
 def small_span(chance, round_length, start, end, width):
     least = chance.randrange(round_length)
@@ -37,6 +46,49 @@ def small_net(chance):
         spans.append(small_span(chance, round_length, *chance.sample(events, 2), chance.randrange(round_length - 2)))
     chance.shuffle(spans)
     return Net(round_length, events, spans)
+
+
+def chained_net(chance):
+    """A row of events with wide spans, so that several rounds can pass from its first event to its last one."""
+    count = chance.choice([3, 4])
+    round_length = chance.randrange(*{3: (6, 10), 4: (5, 7)}[count])
+    events = ["d", "a", "c", "b"][:count]
+    spans = [small_span(chance, round_length, *chance.sample(pair, 2), round_length - 3)
+             for pair in zip(events, events[1:])]
+    for _ in range(chance.randrange(3)):
+        spans.append(small_span(chance, round_length, *chance.sample(events, 2), chance.randrange(round_length - 2)))
+    chance.shuffle(spans)
+    chance.shuffle(events)
+    return Net(round_length, events, spans)
+
+
+def chained_nets(count, seed):
+    """The same nets each time."""
+    chance = random.Random(seed)
+    return [chained_net(chance) for _ in range(count)]
+
+
+def large_net(chance):
+    """A net of up to 12 events and 24 spans, in up to two pieces and single events, and a timetable that keeps it."""
+    round_length = chance.choice([10, 30, 60, 120])
+    events = chance.sample(list("abcdefghijkl"), chance.randrange(3, 13))
+    minutes = {name: chance.randrange(round_length) for name in events}
+    cut = chance.choice([0, 2, len(events) // 2])
+    pieces = [piece for piece in [events[:cut], events[cut:]] if len(piece) > 1]
+    spans = []
+    for _ in range(chance.randrange(len(events), 25)):
+        start, end = chance.sample(chance.choice(pieces), 2)
+        width = chance.randrange(round_length - 2)
+        least = (minutes[end] - minutes[start] - chance.randrange(width + 1)) % round_length
+        spans.append((start, end, least, least + width, chance.choice([0, 1, 2, 5, 50, 99])))
+    chance.shuffle(events)
+    return Net(round_length, events, spans), Times(round_length, minutes)
+
+
+def large_nets(count, seed):
+    """The same nets each time, each with a timetable."""
+    chance = random.Random(seed)
+    return [large_net(chance) for _ in range(count)]
 
 
 def small_nets(count, seed):

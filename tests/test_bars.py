@@ -8,7 +8,7 @@ from roundminutes.bars import Bar, FixedBar, PathBar, RingBar
 from roundminutes.errors import BadNumber, BrokenSpan, WrongNames
 from roundminutes.nets import Net
 from roundminutes.times import Times
-from samples import NET, X, Y, Z
+from samples import CHAIN, CHAIN_GOAL, CHAIN_LATER, CHAIN_START, NET, X, Y, Z
 
 RING = [(2, 1), (0, 1), (1, 1)]
 
@@ -16,15 +16,7 @@ RING = [(2, 1), (0, 1), (1, 1)]
 NO_RINGS = [[], [(0, 1)], [(0, 1), (1, 1)], [(3, 1)], [(-1, 1)], [(0, 0)], [(0, 1), (2, 1), (1, 1)],
             [(2, 1), (0, 1), (1, -1)], [(2, 1), (0, 1), (1, 1), (9, 1)]]
 
-# Rigid spans at a and b and at d and e, free ones between b, c and d.
-CHAIN = Net(30, ["a", "b", "c", "d", "e"], [
-    ("a", "b", 10, 10, 1), ("b", "c", 5, 30, 1), ("c", "d", 5, 30, 1), ("d", "e", 4, 4, 1)])
-CHAIN_START = Times(30, {"a": 0, "b": 10, "c": 20, "d": 0, "e": 4})
-# c is later, and a round more passes from b to d.
-CHAIN_GOAL = Times(30, {"a": 0, "b": 10, "c": 5, "d": 0, "e": 4})
-# All later by 5 minutes.
-CHAIN_LATER = CHAIN_START >> 5
-
+# These fix events of CHAIN for alone moves.
 FIX_A = [(0, 1), (0, -1)]
 FIX_B = [(0, -1), (0, 1)]
 FIX_D = [(3, 1), (3, -1)]

@@ -95,8 +95,8 @@ class LanguageTest(unittest.TestCase):
             for kind in nodes(path, ast.ClassDef):
                 for node in kind.body:
                     if isinstance(node, ast.FunctionDef):
-                        marks = [mark.id for mark in node.decorator_list if isinstance(mark, ast.Name)]
-                        (properties if "property" in marks else methods).add(node.name)
+                        marks = [mark.id if isinstance(mark, ast.Name) else mark.attr for mark in node.decorator_list]
+                        (properties if {"property", "setter"} & {*marks} else methods).add(node.name)
                     elif isinstance(node, ast.Assign):
                         values.add(node.targets[0].id)
             attributes |= {node.attr for node in nodes(path, ast.Attribute) if isinstance(node.ctx, ast.Store)}
@@ -125,6 +125,66 @@ class LanguageTest(unittest.TestCase):
                     self.assertEqual((node.args.defaults, node.args.kwonlyargs, node.args.vararg), ([], [], None))
             for node in nodes(path, ast.AugAssign):
                 self.assertIsInstance(node.value, ast.Constant, (path, node.lineno))
+
+    def test_generators_have_names_of_their_own(self):
+        functions = [node for path in FILES for node in nodes(path, ast.FunctionDef)]
+        names = [node.name for node in functions]
+        for node in functions:
+            if any(isinstance(part, (ast.Yield, ast.YieldFrom)) for part in ast.walk(node)):
+                self.assertEqual(names.count(node.name), 1, node.name)
+                self.assertEqual(node.decorator_list, [], node.name)
+
+    def test_iteration_is_one_statement(self):
+        for path in FILES:
+            for node in nodes(path, ast.FunctionDef):
+                if node.name == "__iter__":
+                    self.assertRegex(ast.unparse(node.body[0]), r"^return iter\(self\.\w+\)$")
+                    self.assertEqual(len(node.body), 1)
+
+    def test_lengths_are_taken_by_len(self):
+        for path in FILES:
+            for node in nodes(path, ast.FunctionDef):
+                if node.name == "__len__":
+                    self.assertRegex(ast.unparse(node), r"^def __len__\(self\):\n +return len\(.*\)$")
+
+    def test_behind_a_star_stand_names_and_literals(self):
+        plain = (ast.Name, ast.Constant, ast.List, ast.Tuple, ast.Dict)
+        for path in FILES:
+            for node in nodes(path, ast.Call):
+                stars = [at for at, value in enumerate(node.args) if isinstance(value, ast.Starred)]
+                if stars:
+                    values = [value.value if isinstance(value, ast.Starred) else value for value in node.args[stars[0]:]]
+                    values += [keyword.value for keyword in node.keywords]
+                    self.assertTrue(all(isinstance(value, plain) for value in values), (path, node.lineno))
+
+    def test_ends_of_blocks_only_give_attributes_values(self):
+        rows = r"def __exit__\(self, kind, value, trace\):\n    (\w+) = self\.\w+\n    if kind is not None:"
+        for path in FILES:
+            for node in nodes(path, ast.FunctionDef):
+                if node.name == "__exit__":
+                    self.assertRegex(ast.unparse(node), rf"^{rows}(\n        \1\.\w+ = self\.\w+)+$")
+
+    def test_names_that_no_one_may_have(self):
+        # L12 and L17
+        barred = re.compile("_(wall|pe_|dcw_|enum_|cm_|twin_re_|lay_|law_|stub_|sre).*|__.*(?<!__)"
+                            "|_(cold|tuplegetter|outside|record|written_out|member_names)[0-9_]*"
+                            "|register|mro|elements|open|input|law|version_info|with_traceback|add_note")
+        for path in FILES:
+            names = [node.id for node in nodes(path, ast.Name)] + [node.arg for node in nodes(path, ast.arg)]
+            names += [node.attr for node in nodes(path, ast.Attribute)]
+            names += [node.name for node in nodes(path, ast.FunctionDef, ast.ClassDef)]
+            self.assertEqual([name for name in names if barred.fullmatch(name)], [], path)
+
+    def test_kept_ranges_are_assigned_once(self):
+        # L23, of names that keep a range, a zip, a view and so on.
+        kinds = "range zip enumerate reversed items keys values map".split()
+        for path in FILES:
+            for function in nodes(path, ast.FunctionDef):
+                for node in ast.walk(function):
+                    if isinstance(node, ast.Assign) and isinstance(node.value, ast.Call):
+                        called = node.value.func
+                        name = called.id if isinstance(called, ast.Name) else getattr(called, "attr", "")
+                        self.assertNotIn(name, kinds, (path, node.lineno))
 
     def test_barred_words(self):
         for path in FILES:
