@@ -62,7 +62,7 @@ class Plan:
         return self._manner_name
 
     def __len__(self):
-        return len(range(self._count))
+        return len(list(range(self._count)))
 
     def _move(self, minutes, left):
         """Return the next move, if these minutes pass now and this part of the shift is left."""
